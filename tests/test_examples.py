@@ -47,6 +47,65 @@ EXAMPLES = {
 >>> phrase_text(phrase_from("@1( ((0>1->!) +~-@0(2>2) ) )"))
 '@1(((0>1 -> !) +~- @0(2>2)))'
 """,
+    "names": """
+>>> from deeplooks.names import named_from
+>>> from deeplooks.phrasetexts import phrase_text
+>>> phrase_text(named_from(["look = 0>1", "both = ($look +;+ $look)", "whole = @0(($both -> !))"]))
+'@0(((0>1 +;+ 0>1) -> !))'
+""",
+    "checks": """
+>>> from deeplooks.checks import stands_at
+>>> from deeplooks.phrasetexts import phrase_from
+>>> stands_at(phrase_from("(@1((0>1 -> @2(!))) -;- !)"))
+(1, 2, -1)
+""",
+    "events": """
+>>> from deeplooks.events import events_of
+>>> from deeplooks.phrasetexts import phrase_from
+>>> from deeplooks.systems import System
+>>> events_of(System(1, [0, 0], [[], []], [0]), phrase_from("@0((0>1 +~+ 1>0))"))
+(('ask', -1, 0), ('look', 0, 0, 1), ('look', 0, 1, 0), ('answer', 0, -1))
+""",
+    "rows": """
+>>> from deeplooks.events import order_of
+>>> from deeplooks.phrasetexts import phrase_from
+>>> from deeplooks.rows import rows_of
+>>> from deeplooks.systems import System
+>>> list(rows_of(order_of(System(1, [0, 0], [[], []], [0]), phrase_from("@0((0>1 +~+ 1>0))"))))
+[(0, 1, 2, 3), (0, 2, 1, 3)]
+""",
+    "exchanges": """
+>>> from deeplooks.exchanges import exchanges
+>>> from deeplooks.orders import Order
+>>> exchanges(Order(3, [(0, 2)]), [1, 0, 2], (0, 2, 1))
+(0, 1)
+""",
+    "series": """
+>>> from deeplooks.orders import Order
+>>> from deeplooks.series import n_of, pieces
+>>> order = Order(5, [(4, 2), (1, 2), (1, 3)])
+>>> [n_of(order), pieces(order, True)]
+[(4, 1, 2, 3), [(0,), (1, 2, 3, 4)]]
+""",
+    "worth": """
+>>> from deeplooks.evidencetexts import evidence_text
+>>> from deeplooks.phrasetexts import phrase_from
+>>> from deeplooks.systems import System
+>>> from deeplooks.worth import clean_of
+>>> system = System(2, [0, 0, 1, 1], [[], [], [], []], [0, 2])
+>>> phrase = phrase_from("@0((0>1 -> @1((2>3 -> !))))")
+>>> evidence_text(clean_of(system, phrase, 5))
+'!0@1(1:2>3+(0:0>1+(#5)))'
+""",
+    "ways": """
+>>> from deeplooks.phrasetexts import phrase_from
+>>> from deeplooks.systems import System
+>>> from deeplooks.ways import way_of
+>>> system = System(2, [0, 0, 1, 1], [[], [], [], []], [0, 2])
+>>> phrase = phrase_from("@0((0>1 -> @1((2>3 -> !))))")
+>>> way_of(system, phrase, ("in", "in"))
+((1, 0, ()), (2, 0, ()), (4, 1, ((0, 1),)), (5, 0, ((0, 1),)))
+""",
 }
 
 
