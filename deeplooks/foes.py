@@ -1,7 +1,7 @@
 """Foes: which parts may be bad from the start, by which rules more can be made bad, what is stuck."""
 
 from deeplooks.errors import BadFoe, BadLot, BadText
-from deeplooks.reading import behind_word, number_in, numbers_text, set_in
+from deeplooks.reading import behind_word, lines_in, number_in, numbers_text, set_in
 from deeplooks.sets import common, inside, is_list, is_number, is_set, joined, meets, set_of, without
 from deeplooks.systems import MOST_PARTS
 
@@ -90,11 +90,7 @@ def foe_text(foe):
 
 def foe_from(text):
     """The foe that has this text; BadText(line) tells the first line that is wrong."""
-    if not isinstance(text, str):
-        raise BadText(0)
-    told = text.split("\n")
-    # Lines that lack are read as empty ones: no line of such a text is empty.
-    lines = told + [""] * LINES
+    lines = lines_in(text, LINES)
     many = _many_in(lines[0])
     if many is None:
         raise BadText(0)
@@ -107,7 +103,7 @@ def foe_from(text):
     stuck = _set_line_in(lines[3], "stuck", many)
     if stuck is None:
         raise BadText(3)
-    if len(told) > LINES:
+    if len(lines) > LINES:
         raise BadText(LINES)
     return Foe(many, early, rules, stuck=stuck)
 

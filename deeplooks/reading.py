@@ -1,5 +1,16 @@
 """Reading the lines of texts: numbers and sets exactly as they are written."""
 
+from deeplooks.errors import BadText
+
+
+def lines_in(text, many):
+    """The lines of the text, at least so many; BadText(0) if it is no text."""
+    if not isinstance(text, str):
+        raise BadText(0)
+    lines = text.split("\n")
+    # Lines that lack are read as empty ones: no right line is empty.
+    return lines + [""] * (many - len(lines))
+
 
 def number_in(word, many):
     """The integer of 0 .. many - 1 that is written so, None if there is none."""

@@ -50,16 +50,17 @@ def count_rows(order):
 
 def row_count(phrase):
     """The number of rows of the events of the phrase."""
-    if isinstance(phrase, (Look, Sign)):
+    parts = phrase.parts_of()
+    if not parts:
         return 1
     if isinstance(phrase, Ask):
         return row_count(phrase.asked)
-    left, right = phrase.parts_of()
-    product_of_both = row_count(left) * row_count(right)
+    left, right = parts
+    both = row_count(left) * row_count(right)
     if isinstance(phrase, Branch) and phrase.together:
         many = event_many(left)
-        return product_of_both * comb(many + event_many(right), many)
-    return product_of_both
+        return both * comb(many + event_many(right), many)
+    return both
 
 
 def beginning_count(phrase):

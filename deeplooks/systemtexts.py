@@ -1,7 +1,7 @@
 """The text of a system, and reading it."""
 
 from deeplooks.errors import BadText
-from deeplooks.reading import behind_word, number_in, numbers_in, numbers_text, set_in
+from deeplooks.reading import behind_word, lines_in, number_in, numbers_in, numbers_text, set_in
 from deeplooks.systems import MOST_PARTS, MOST_PLACES, System, are_managers
 
 LINES = 4
@@ -21,11 +21,7 @@ def system_text(system):
 
 def system_from(text):
     """The system that has this text; BadText(line) tells the first line that is wrong."""
-    if not isinstance(text, str):
-        raise BadText(0)
-    told = text.split("\n")
-    # Lines that lack are read as empty ones: no line of such a text is empty.
-    lines = told + [""] * LINES
+    lines = lines_in(text, LINES)
     places = _places_in(lines[0])
     if places is None:
         raise BadText(0)
@@ -38,7 +34,7 @@ def system_from(text):
     managers = _managers_in(lines[3], homes, places)
     if managers is None:
         raise BadText(3)
-    if len(told) > LINES:
+    if len(lines) > LINES:
         raise BadText(LINES)
     return System(places, homes, needs, managers)
 

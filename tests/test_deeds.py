@@ -64,9 +64,8 @@ class Deeds(Case):
         for foe in all_foes(1):
             for length in range(3):
                 self.go_through(foe, length)
-        for number, foe in enumerate(all_foes(2)):
-            if number % 8 == 3:
-                self.go_through(foe, 1)
+        for foe in all_foes(2):
+            self.go_through(foe, 1)
 
     def go_through(self, foe, length):
         """Each run of the foe has deeds, and what is no run of it is refused."""
@@ -139,6 +138,9 @@ class Deeds(Case):
         # The part is good, but the rule needs what is mended by then.
         self.raises(BadDeed, (0, 1), played, foe, [0], [[("mend", 0), ("corrupt", 1)]])
         self.raises(BadDeed, (0, 1), played, foe, [0], [[("corrupt", 1), ("mend", 1)]])
+        # What is bad already is not corrupted again, what is good not mended.
+        self.raises(BadDeed, (0, 1), played, foe, [0], [[("corrupt", 1), ("corrupt", 1)]])
+        self.raises(BadDeed, (1, 0), played, foe, [0], [[("mend", 0)], [("mend", 0)]])
 
     def test_changes_nothing(self):
         foe = Foe(2, [0], [([0], 1)])

@@ -111,6 +111,7 @@ class Named(Case):
     def test_names_that_are_told_twice_or_by_none(self):
         for call in (named_from, uses):
             self.raises(BadPhrase, "name", call, ["a = !", "a = !"])
+            self.raises(BadPhrase, "name", call, ["a = !", "a = 0>1", "b = !"])
             self.raises(BadPhrase, "name", call, ["a = $b"])
             self.raises(BadPhrase, "name", call, ["a = !", "b = $c", "d = !"])
             # This comes ahead of a ring.

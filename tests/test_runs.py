@@ -133,10 +133,9 @@ class Forms(Case):
         for foe in all_foes(1):
             for length in range(4):
                 self.check(foe, length)
-        for number, foe in enumerate(all_foes(2)):
+        for foe in all_foes(2):
             self.check(foe, 0)
-            if number % 4 == 1:
-                self.check(foe, 1)
+            self.check(foe, 1)
 
     def test_longer_runs(self):
         chance = seeded(15)

@@ -168,6 +168,20 @@ class LooksPhrase(Case):
     def test_the_same_look_several_times(self):
         self.check(TWO, [(2, 2), (2, 2), [2, 0]], Order(3, [(1, 0)]))
 
+    def test_targets_may_be_at_home_elsewhere(self):
+        self.check(TWO, [(2, 0), (2, 2)], Order(2, [(1, 0)]))
+        self.check(TWO, [(0, 2), (1, 0), (0, 1)], Order(3, [(1, 0), (1, 2)]))
+        self.assertEqual(looks_phrase(TWO, [(2, 0)], Order(1, [])), (Ask(1, Look(2, 0)), (0,)))
+
+    def test_lists_are_new(self):
+        order = Order(3, [(0, 2)])
+        pieces(order, True).clear()
+        self.assertEqual(pieces(order, True), [(0, 2), (1,)])
+        looks = [[0, 1], [1, 0]]
+        found = looks_phrase(ONE, looks, Order(2, []))
+        looks[0].clear()
+        self.assertEqual(found, looks_phrase(ONE, [(0, 1), (1, 0)], Order(2, [])))
+
     def test_refused(self):
         wrong = [[], [(0, 1)] * 9, [(0, 3)], [(3, 0)], [(0, -1)], [(0,)], [(0, 1, 2)], [0], ["01"], [(0, 1), (2, 0)]]
         wrong = wrong + [[(0, member)] for member in NO_INTEGERS] + [[{0, 1}]]

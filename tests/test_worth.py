@@ -2,11 +2,13 @@
 
 import unittest
 
+from deeplooks.checks import stands_at
 from deeplooks.errors import BadNumber, BadPhrase, BadSet
 from deeplooks.evidence import Nonce, Said, at_path, put_at, words_in
 from deeplooks.evidencetexts import evidence_text
 from deeplooks.phrases import Ask, Branch, Look, Sign, Then, in_turn, look_many, sign_many
 from deeplooks.phrasetexts import phrase_from
+from deeplooks.ways import all_ways
 from deeplooks.worth import clean_of, copies_of, evidence_of, keeps, lost_looks, sign_holds, size_of
 from tests.fitting import fitting_phrases, mark_phrases
 from tests.helpers import FOUR, NO_INTEGERS, NO_LISTS, ODD, Case, seeded, some_phrase
@@ -167,6 +169,18 @@ class Copies(Case):
         self.assertEqual(keeps(phrase), 64)
         self.assertEqual(lost_looks(phrase), ())
 
+    def test_sixty_four_copies_in_a_phrase_that_fits(self):
+        doubles = [Branch(Sign(), Sign())] * 5 + [Branch(Look(1, 0), Look(1, 1), together=True)]
+        phrase = Ask(0, in_turn(Look(0, 1), *doubles))
+        copies = copies_of(phrase)
+        self.assertEqual([len(found) for found in copies], [64, 1, 1])
+        self.assertEqual(list(copies[0]), sorted(set(copies[0])))
+        evidence = clean_of(FOUR, phrase, 1)
+        self.assertEqual(tuple(path for path, look, _ in words_in(evidence) if look == 0), copies[0])
+        ways = all_ways(FOUR, phrase)[0]
+        self.assertEqual(len(ways), 64)
+        self.assertEqual(len(set(ways)), 32)
+
     def test_leaves_at_the_judge(self):
         # copies_of takes phrases that fit no system, too.
         self.assertEqual(copies_of(phrase_from("(0>1 -> (! +;+ 7>7))")), ((("left", "in"), ("right", "in")), (("right",),)))
@@ -225,12 +239,29 @@ class Unchanged(Case):
         self.assertEqual(clean_of(FOUR, one, 9), clean_of(FOUR, two, 9))
         self.assertEqual(clean_of(FOUR, Ask(3, one), 9), clean_of(FOUR, one, 9))
 
+    def test_equal_evidence_tells_equal_looks_and_signs(self):
+        told = {}
+        for phrase in many_phrases():
+            text = evidence_text(clean_of(FOUR, phrase, 9))
+            for other in told.setdefault(text, []):
+                self.assertEqual(what_comes_in(phrase, text), what_comes_in(other, text))
+            told[text].append(phrase)
+        self.assertGreater(max(len(found) for found in told.values()), 1)
+
     def test_nonces_differ(self):
         phrase = phrase_from("@0((0>1 -> !))")
         self.assertNotEqual(clean_of(FOUR, phrase, 1), clean_of(FOUR, phrase, 2))
         without = phrase_from("@0((0>1 -;- !))")
         self.assertEqual(clean_of(FOUR, without, 1), clean_of(FOUR, without, 2))
         self.assertIsInstance(at_path(clean_of(FOUR, phrase, 1), ["in", "in"]), Nonce)
+
+
+def what_comes_in(phrase, text):
+    """The looks that are not lost and the signs in the text, with their numbers, parts and places."""
+    looks = [leaf for leaf in phrase.leaves() if isinstance(leaf, Look)]
+    kept = [(k, look.measurer, look.target) for k, look in enumerate(looks) if k not in lost_looks(phrase)]
+    places = [place for leaf, place in zip(phrase.leaves(), stands_at(phrase)) if isinstance(leaf, Sign)]
+    return kept, [(k, place) for k, place in enumerate(places) if f"!{k}@{place}(" in text]
 
 
 def turned(phrase):

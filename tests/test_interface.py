@@ -1,0 +1,101 @@
+"""The names and arguments of the interface, each defined in the file and the class that lists it."""
+
+import importlib
+import inspect
+import unittest
+
+FUNCTIONS = """
+sets is_int(value) check_number(value,low,high,name) set_of(value,many,name) joined(one,other) common(one,other)
+sets without(one,other) inside(one,other) short_first(sets) subsets(members) least_sets(sets)
+sets meeting_sets(sets,members)
+systemtexts system_text(system) system_from(text)
+foes foe_text(foe) foe_from(text)
+growth grow(foe,start,barred=()) grow_steps(foe,start,barred=()) is_closed(foe,parts,barred=()) wave(foe,start)
+gaps gap_most(foe,before,behind) gap_deeds(foe,before,behind) can_be(foe,before,moments,behind)
+runs misfit(foe,run) is_run(foe,run)
+deeds run_deeds(foe,run) played(foe,start,gaps) deeds_many(start,gaps)
+phrases in_turn(*phrases) beside(*phrases,together=True) depth(phrase) ask_many(phrase) look_many(phrase)
+phrases sign_many(phrase)
+phrasetexts phrase_text(phrase) phrase_from(text)
+names named_from(lines) uses(lines)
+checks check_phrase(system,phrase) stands_at(phrase) event_many(phrase) void_looks(system,phrase)
+events events_of(system,phrase) look_events(system,phrase) order_of(system,phrase) look_order(system,phrase)
+rows is_row(order,row) rows_of(order) beginnings(order) count_rows(order) row_count(phrase) beginning_count(phrase)
+rows extremes(system,phrase)
+exchanges unlike(row,other) exchanges(order,row,other)
+series n_of(order) pieces(order,comparable) looks_phrase(system,looks,order)
+evidence at_path(evidence,path) put_at(evidence,path,other) words_in(evidence)
+evidencetexts evidence_text(evidence) evidence_from(text)
+worth evidence_of(system,phrase,nonce,words) clean_of(system,phrase,nonce) keeps(phrase) size_of(phrase)
+worth copies_of(phrase) lost_looks(phrase) sign_holds(phrase,sign)
+ways way_of(system,phrase,path) round_of(step) all_ways(system,phrase) left_before(system,phrase,path)
+"""
+
+CLASSES = """
+systems.System __init__(self,places,homes,needs,managers) many() at_home(self,place) void(self,a,b) grounded(self,a,bad)
+systems.System __add__(self,other) __eq__(self,other) standing(places,homes,direct,managers)
+foes.Foe __init__(self,many,early,rules,*,stuck=()) many() less(self,parts) free_parts(self) holds(self,other)
+foes.Foe __or__(self,other) __eq__(self,other) of_lot(levels)
+runs.Run __init__(self,moments,states) __len__(self) under(self,other) bad_at(self,i) moment(self,i)
+runs.Run dropped(self,places) __or__(self,other) __eq__(self,other) blank(length)
+phrases.Look __init__(self,measurer,target) leaves(self) parts_of(self) __eq__(self,other)
+phrases.Sign leaves(self) parts_of(self) __eq__(self,other)
+phrases.Ask __init__(self,place,asked) leaves(self) parts_of(self) __eq__(self,other)
+phrases.Then __init__(self,first,second) leaves(self) parts_of(self) __eq__(self,other)
+phrases.Branch __init__(self,left,right,*,keep_left=True,keep_right=True,together=False) leaves(self) parts_of(self)
+phrases.Branch __eq__(self,other)
+orders.Order __init__(self,size,pairs) pairs_many() before(self,e,f) ahead(self,e) behind(self,e) ready(self,done)
+orders.Order is_beginning(self,done) kept(self,members) holds(self,other) __eq__(self,other) of_row(row)
+evidence.Evidence insides(self) knots(self)
+evidence.Nonce __init__(self,number) __eq__(self,other)
+evidence.Empty __eq__(self,other)
+evidence.Broken __init__(self,place) __eq__(self,other)
+evidence.Said __init__(self,look,measurer,target,good,inner) __eq__(self,other)
+evidence.Signed __init__(self,sign,place,inner) __eq__(self,other)
+evidence.Pair __init__(self,left,right) __eq__(self,other)
+"""
+
+
+def arguments(value):
+    """The arguments as the lists above write them."""
+    return str(inspect.signature(value)).replace(" ", "")
+
+
+def module_of(name):
+    """The module of the package with this name."""
+    return importlib.import_module("deeplooks." + name)
+
+
+class Interface(unittest.TestCase):
+
+    def test_functions(self):
+        for line in FUNCTIONS.strip().split("\n"):
+            module, *entries = line.split(" ")
+            for entry in entries:
+                name = entry.split("(")[0]
+                found = getattr(module_of(module), name)
+                self.assertEqual(name + arguments(found), entry)
+                self.assertEqual(found.__module__, "deeplooks." + module)
+
+    def test_classes(self):
+        for line in CLASSES.strip().split("\n"):
+            where, *entries = line.split(" ")
+            module, name = where.split(".")
+            held = getattr(module_of(module), name)
+            self.assertEqual(held.__module__, "deeplooks." + module)
+            for entry in entries:
+                method = entry.split("(")[0]
+                self.assertIn(method, vars(held), where)
+                if entry.endswith("()"):
+                    self.assertIsInstance(vars(held)[method], property)
+                else:
+                    self.assertEqual(method + arguments(getattr(held, method)), entry)
+
+    def test_the_package_itself_binds_nothing(self):
+        package = importlib.import_module("deeplooks")
+        with open(package.__file__, encoding="utf-8") as file:
+            self.assertEqual(file.read().count("import"), 0)
+
+
+if __name__ == "__main__":
+    unittest.main()
