@@ -34,15 +34,21 @@ def beginnings(order):
     return short_first([_set_of_mask(mask) for mask in _beginning_masks(order)])
 
 
+def walk_of(order):
+    """A list of the masks of all beginnings, smaller ones first, each with the numbers ready behind it."""
+    wanted = _wanted(order)
+    return [(mask, _ready(wanted, mask)) for mask in _beginning_masks(order)]
+
+
 def count_rows(order):
     """The number of rows, by the numbers of ways to come to each beginning."""
     _check_size(order)
-    wanted = _wanted(order)
-    ways = {mask: 0 for mask in _beginning_masks(order)}
+    walk = walk_of(order)
+    ways = {mask: 0 for mask, _ in walk}
     ways[0] = 1
     # Smaller beginnings come first, so the ways to one are all told before they go on from it.
-    for mask in list(ways):
-        for number in _ready(wanted, mask):
+    for mask, ready in walk:
+        for number in ready:
             larger = mask | 1 << number
             ways[larger] = ways[larger] + ways[mask]
     return ways[(1 << order.size) - 1]
