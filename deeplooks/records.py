@@ -11,7 +11,7 @@ ASKED = "asked"
 BEGUN = "begun"
 DONE = "done"
 GOT = "got"
-KINDS = (SAID, ASKED, BEGUN, DONE, GOT)
+KINDS = ("said", "asked", "begun", "done", "got")
 
 
 class Record:

@@ -3,7 +3,7 @@
 import unittest
 
 from deeplooks.covers import Hearing, check_aim, check_line, first_heard, honest_bad, reaches, unheard
-from deeplooks.errors import BadAim, BadLine, BadRow, BadRun
+from deeplooks.errors import BadAim, BadFoe, BadLine, BadRow, BadRun
 from deeplooks.foes import Foe
 from deeplooks.runs import Run
 from deeplooks.sieves import clean_rows, goings, is_peel, once, peel, sieve
@@ -65,7 +65,6 @@ class Lines(Case):
                 self.raises(BadLine, 2, call, (None, (many - 1, 0), place, ODD))
 
     def test_the_foe_of_unlike_many_comes_next(self):
-        from deeplooks.errors import BadFoe
         small = Foe(2, [], [], stuck=[0])
         for call, more in [(once, ()), (clean_rows, ())]:
             self.raises(BadFoe, "many", call, SYSTEM, small, [(0, 0)], *more)

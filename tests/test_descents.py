@@ -62,12 +62,14 @@ class Descents(BareAim):
     def test_drawn_runs(self):
         chance = seeded(118)
         words, deepest, refused = set(), 0, 0
-        for _ in range(250):
+        for _ in range(500):
             many = chance.randrange(2, 6)
             system, foe = one_place(chance, many), some_foe(chance, many, 8)
             if chance.random() < 0.6:
-                foe = foe | Foe(many, [], [((), chance.randrange(many))])
-            line = some_line(chance, many, chance.randrange(1, 8), 0.1)
+                # Few needs and parts that come back: what covers a look may have been good at its own one.
+                system = System(1, [0] * many, [[p for p in range(many) if chance.random() < 0.1]] * many, [0])
+                foe = Foe(many, foe.early, [((), p) for p in range(many) if chance.random() < 0.4])
+            line = some_line(chance, many, chance.randrange(1, 10), 0.1)
             run = sieve(foe, line, Hearing(system, line))
             ways = all_ways_down(system, line, run)
             for i, look in enumerate(line):

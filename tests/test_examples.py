@@ -106,6 +106,183 @@ EXAMPLES = {
 >>> way_of(system, phrase, ("in", "in"))
 ((1, 0, ()), (2, 0, ()), (4, 1, ((0, 1),)), (5, 0, ((0, 1),)))
 """,
+    "judges": """
+>>> from deeplooks.judges import judge_text
+>>> from deeplooks.phrasetexts import phrase_from
+>>> from deeplooks.systems import System
+>>> system = System(2, [0, 0, 1, 1], [[], [], [], []], [0, 2])
+>>> phrase = phrase_from("@0((0>1 -> @1((2>3 -> !))))")
+>>> judge_text(system, phrase, 5, "!0@1(1:2>3-(0:0>1+(#4)))")
+(('in',), 'word')
+""",
+    "machines": """
+>>> from deeplooks.machines import Machine
+>>> from deeplooks.phrasetexts import phrase_from
+>>> from deeplooks.systems import System
+>>> system = System(2, [0, 0, 1, 1], [[], [], [], []], [0, 2])
+>>> machine = Machine(system, phrase_from("@0((0>1 -> @1((2>3 -> !))))"), 5)
+>>> [machine.do(0, cut=3), machine.ready(), machine.do(0), machine.missing]
+[False, (0,), True, 9]
+""",
+    "driving": r"""
+>>> from deeplooks.driving import drive
+>>> from deeplooks.phrasetexts import phrase_from
+>>> from deeplooks.systems import System
+>>> system = System(2, [0, 0, 1, 1], [[], [], [], []], [0, 2])
+>>> phrase = phrase_from("@0((0>1 -> @1((2>3 -> !))))")
+>>> drive(system, phrase, 5, (0, 1, 2, 3, 4, 5), [True, False]).log_of(1)
+'begun 2 0:0>1+(#5)\nsaid 3 -\ndone 2 !0@1(1:2>3-(0:0>1+(#5)))\n'
+""",
+    "driving 2": """
+>>> from deeplooks.driving import deeds_left
+>>> from deeplooks.machines import Machine
+>>> from deeplooks.phrasetexts import phrase_from
+>>> from deeplooks.systems import System
+>>> len(deeds_left(Machine(System(1, [0, 0], [[], []], [0]), phrase_from("@0(0>1)"), 0)))
+7
+""",
+    "covers": """
+>>> from deeplooks.systems import System
+>>> from deeplooks.runs import Run
+>>> from deeplooks.covers import first_heard
+>>> system = System(1, [0, 0, 0], [[0], [1], [0, 2]], [0])
+>>> run = Run([[0, 1]] * 4, [[0, 1], [0, 1], [0]])
+>>> first_heard(system, [(2, 1), None, (1, 0)], run)
+2
+""",
+    "barring": """
+>>> from deeplooks.foes import Foe
+>>> from deeplooks.barring import barred_run
+>>> run = barred_run(Foe(2, [0, 1], [([1], 0)], stuck=[1]), 2, [(0, 1), (1, 0)])
+>>> (run.moments, run.states)
+(((0,), (0,), ()), ((0,), ()))
+""",
+    "sieves": """
+>>> from deeplooks.systems import System
+>>> from deeplooks.foes import Foe
+>>> from deeplooks.covers import Hearing
+>>> from deeplooks.sieves import goings
+>>> system = System(1, [0, 0, 0], [[0], [1], [2]], [2])
+>>> foe = Foe(3, [0, 1], [], stuck=[0])
+>>> line = [(0, 1), (2, 0)]
+>>> [run.states for run in goings(foe, line, Hearing(system, line))]
+[((0, 1), (0, 1)), ((1,), (1,)), ((), ())]
+""",
+    "sieves 2": """
+>>> from deeplooks.systems import System
+>>> from deeplooks.foes import Foe
+>>> from deeplooks.covers import Hearing
+>>> from deeplooks.sieves import peel
+>>> system = System(1, [0, 0, 0], [[0], [1], [2]], [2])
+>>> foe = Foe(3, [0, 1], [], stuck=[0])
+>>> line = [(0, 1), (2, 0)]
+>>> peel(foe, line, Hearing(system, line), (1, None))
+(1, 0)
+""",
+    "plays": """
+>>> from deeplooks.systems import System
+>>> from deeplooks.foes import Foe
+>>> from deeplooks.plays import plays_of
+>>> system = System(1, [0, 0, 0], [[0, 1], [1], [2]], [0])
+>>> foe = Foe(3, [0, 1, 2], [])
+>>> plays_of(system, foe, [(0, 2)], 2, 0)
+[((0, 2),), ((1, 2),)]
+""",
+    "openness": """
+>>> from deeplooks.systems import System
+>>> from deeplooks.foes import Foe
+>>> from deeplooks.phrasetexts import phrase_from
+>>> from deeplooks.openness import open_way
+>>> system = System(1, [0, 0, 0], [[0], [0, 1], [2]], [0])
+>>> phrase = phrase_from("@0((0>1 +~+ 1>2))")
+>>> row, run = open_way(system, Foe.of_lot([0, 1, 1]), phrase, (2, None))
+>>> (row, run.states)
+((1, 0), ((1, 2), (2,)))
+""",
+    "openness 2": """
+>>> from deeplooks.systems import System
+>>> from deeplooks.foes import Foe
+>>> from deeplooks.phrasetexts import phrase_from
+>>> from deeplooks.openness import peels_of
+>>> system = System(1, [0, 0, 0], [[0], [0, 1], [2]], [0])
+>>> phrase = phrase_from("@0((0>1 +;+ 1>2))")
+>>> peels_of(system, Foe.of_lot([0, 1, 1]), phrase, (2, None))
+(((0, 1), (0, 1)),)
+""",
+    "tables": """
+>>> from deeplooks.systems import System
+>>> from deeplooks.foes import Foe
+>>> from deeplooks.phrasetexts import phrase_from
+>>> from deeplooks.tables import table_of
+>>> system = System(1, [0, 0, 0], [[0], [0, 1], [2]], [0])
+>>> phrase = phrase_from("@0((0>1 +~+ 1>2))")
+>>> table_of(system, Foe.of_lot([0, 1, 1]), phrase, (1, None))
+[((), [(0,)]), ((0,), [(0, 1)]), ((1,), [(0,)]), ((0, 1), [(0, 1)])]
+""",
+    "lots": """
+>>> from deeplooks.systems import System
+>>> from deeplooks.phrasetexts import phrase_from
+>>> from deeplooks.lots import least_open
+>>> system = System(1, [0, 0, 0], [[0], [0, 1], [2]], [0])
+>>> least_open(system, phrase_from("@0((0>1 +;+ 1>2))"), (2, None))
+[(0, 0, 2), (0, 2, 1), (1, 0, 1)]
+""",
+    "prices": """
+>>> from deeplooks.systems import System
+>>> from deeplooks.foes import Foe
+>>> from deeplooks.phrasetexts import phrase_from
+>>> from deeplooks.prices import Prices, cheapest
+>>> system = System(1, [0, 0, 0], [[0], [0, 1], [2]], [0])
+>>> foe = Foe(3, [2], [([2], 1)], stuck=[])
+>>> prices = Prices([0, 0, 5], [3], [0, 1, 1])
+>>> cheapest(system, foe, phrase_from("@0((0>1 +;+ 1>2))"), (2, None), prices)
+(8, (0, 1), (2,), ((), (('corrupt', 1),), ()))
+""",
+    "changing": """
+>>> from deeplooks.changing import blocked
+>>> from deeplooks.phrasetexts import phrase_from
+>>> from deeplooks.runs import Run
+>>> from deeplooks.systems import System
+>>> system = System(2, [0, 0, 1, 1], [[], [], [], []], [0, 2])
+>>> phrase = phrase_from("@0((0>1 -> @1((2>3 -> !))))")
+>>> run = Run([[], [1], [1], [], [], [0], [0]], [[], [1], [], [], [], [0]])
+>>> blocked(system, phrase, [0, 1, 2, 3, 4, 5], run, ["in", "in"])
+((3, 0, 1),)
+""",
+    "sending": """
+>>> from deeplooks.evidencetexts import evidence_text
+>>> from deeplooks.phrasetexts import phrase_from
+>>> from deeplooks.runs import Run
+>>> from deeplooks.sending import recorded_by
+>>> from deeplooks.systems import System
+>>> system = System(2, [0, 0, 1, 1], [[], [], [], []], [0, 2])
+>>> phrase = phrase_from("@0((0>1 -> @1((2>3 -> !))))")
+>>> run = Run([[2], [1], [1], [], [], [0], [0]], [[], [1], [], [], [], [0]])
+>>> records, last = recorded_by(system, phrase, 5, [0, 1, 2, 3, 4, 5], run)
+>>> [records[1], evidence_text(records[4]), evidence_text(last)]
+[False, '!0@1(1:2>3+(0:0>1-(#5)))', '!0@1(1:2>3+(0:0>1+(#5)))']
+""",
+    "readers": """
+>>> from deeplooks.foes import Foe
+>>> from deeplooks.openness import is_open
+>>> from deeplooks.phrasetexts import phrase_from
+>>> from deeplooks.readers import taken_way
+>>> from deeplooks.systems import System
+>>> system = System(1, [0, 0, 0], [[], [], []], [2])
+>>> foe = Foe(3, [1, 2], [])
+>>> phrase = phrase_from("@0((0>1 -> !))")
+>>> row, run = taken_way(system, foe, phrase, (1, None))
+>>> [row, run.states, is_open(system, foe, phrase, (1, None))]
+[(0, 1, 2), ((1, 2), (1, 2), (1, 2)), False]
+""",
+    "leavings": """
+>>> from deeplooks.leavings import full_signing
+>>> from deeplooks.phrasetexts import phrase_from, phrase_text
+>>> from deeplooks.systems import System
+>>> system = System(2, [0, 0, 1, 1], [[], [], [], []], [0, 2])
+>>> phrase_text(full_signing(system, phrase_from("@0((0>1 -> @1((2>3 -> !))))")))
+'@0(((0>1 -> (! -> @1((2>3 -> !)))) -> !))'
+""",
 }
 
 

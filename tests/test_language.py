@@ -160,6 +160,57 @@ class Language(unittest.TestCase):
                 if isinstance(node, ast.Attribute) and isinstance(node.ctx, ast.Store):
                     self.assertNotIn(node.attr, barred, name)
 
+    def test_no_name_is_a_method_and_an_attribute(self):
+        methods, attributes = set(), set()
+        for _, tree in trees():
+            for node in ast.walk(tree):
+                if isinstance(node, ast.ClassDef):
+                    methods |= {member.name for member in node.body if isinstance(member, ast.FunctionDef)}
+                if isinstance(node, ast.Attribute) and isinstance(node.ctx, ast.Store):
+                    attributes.add(node.attr)
+        self.assertEqual(methods & attributes, set())
+
+    def test_generators_are_iterated_at_once(self):
+        names = {function.name for _, tree in trees() for function in functions(tree)
+                 if any(isinstance(node, ast.Yield) for node in ast.walk(function))}
+        self.assertEqual(names, {"rows_of"})
+        for name, tree in trees():
+            heads = [node.iter for node in ast.walk(tree) if isinstance(node, (ast.For, ast.comprehension))]
+            for node in ast.walk(tree):
+                if isinstance(node, ast.Call) and getattr(node.func, "id", "") in names:
+                    self.assertIn(node, heads, name)
+                    self.assertTrue(all(isinstance(value, ast.Name) for value in node.args), name)
+
+    def test_classes_are_not_passed_on(self):
+        held = {node.name for _, tree in trees() for node in tree.body if isinstance(node, ast.ClassDef)}
+        for name, tree in trees():
+            right = []
+            for node in ast.walk(tree):
+                if isinstance(node, ast.Call):
+                    right.append(node.func)
+                    if getattr(node.func, "id", "") == "isinstance":
+                        right.extend(node.args[1:])
+                        self.assertIsInstance(node.args[1], (ast.Name, ast.Tuple), (name, node.lineno))
+                if isinstance(node, ast.ClassDef):
+                    right.extend(node.bases)
+                if isinstance(node, ast.ExceptHandler):
+                    right.append(node.type)
+                if isinstance(node, ast.Attribute):
+                    right.append(node.value)
+            for node in ast.walk(tree):
+                if isinstance(node, ast.Name) and node.id in held:
+                    self.assertIn(node, right, (name, node.lineno))
+
+    def test_sets_are_not_iterated_and_stored_once(self):
+        for name, tree in trees():
+            for node in ast.walk(tree):
+                if isinstance(node, (ast.For, ast.comprehension)):
+                    self.assertNotEqual(getattr(getattr(node.iter, "func", None), "id", ""), "set", name)
+            for function in functions(tree):
+                stored = [node.targets[0].id for node in ast.walk(function) if isinstance(node, ast.Assign)
+                          and getattr(getattr(node.value, "func", None), "id", "") == "set"]
+                self.assertEqual(len(stored), len(set(stored)), (name, function.name))
+
     def test_methods_that_are_called(self):
         own = set(METHODS)
         for _, tree in trees():
