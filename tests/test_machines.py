@@ -7,7 +7,7 @@ from deeplooks.evidence import Empty, Nonce
 from deeplooks.evidencetexts import evidence_text
 from deeplooks.letters import Letter
 from deeplooks.machines import Machine
-from deeplooks.phrases import Ask, Look, ask_many, look_many
+from deeplooks.phrases import Ask, Branch, Look, Sign, Then, ask_many, look_many
 from deeplooks.phrasetexts import phrase_from
 from deeplooks.rows import rows_of
 from deeplooks.systems import System
@@ -31,7 +31,11 @@ class Drawn(Case):
 
     def test_drawn_deeds(self):
         chance = seeded(70)
-        for phrase in small_phrases(71, 45) + [PHRASE, Ask(0, Ask(0, Ask(3, Look(6, 0))))]:
+        look, sign = Look(0, 1), Ask(1, Sign())
+        # One object stands at several places; asks of signs alone; asks within asks.
+        shared = Ask(0, Branch(Then(look, sign), Then(sign, look), keep_left=False, together=True))
+        deep = Ask(0, Ask(0, Ask(3, Look(6, 0))))
+        for phrase in small_phrases(71, 45) + [PHRASE, shared, deep, Ask(2, Ask(2, Sign())), Ask(0, Then(look, look))]:
             session = Session(self, chance, phrase)
             session.check()
             lead_to_the_end(self, session)
@@ -151,7 +155,8 @@ class Made(Case):
         self.assertIs(machine.waits_for(to), True)
         self.assertIs(machine.waits_for(back), False)
         for value in [None, ODD, 0, "5 2 to #123", Letter(6, 2, False, Nonce(1)), Letter(5, 1, False, Empty()),
-                      Letter(5, 3, False, Empty()), Letter(5, 4, True, Empty()), Letter(5, 99, False, Empty())]:
+                      Letter(5, 3, False, Empty()), Letter(5, 4, True, Empty()), Letter(5, 99, False, Empty()),
+                      Letter(5, 6, False, Empty()), Letter(5, 6, True, Empty())]:
             self.assertIs(machine.waits_for(value), False)
         machine.do(0)
         for letter in machine.letters():

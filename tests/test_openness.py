@@ -12,7 +12,7 @@ from deeplooks.phrases import Ask, Look, beside, in_turn
 from deeplooks.phrasetexts import phrase_from
 from deeplooks.prices import Prices, cheapest, fewest_deeds, heights_of, is_heights
 from deeplooks.readers import reader_peels, taken_way
-from deeplooks.rows import rows_of
+from deeplooks.rows import count_rows, rows_of
 from deeplooks.runs import is_run
 from deeplooks.sieves import is_peel, peel, sieve
 from deeplooks.systems import System
@@ -182,6 +182,24 @@ class Open(BareAim):
         # 840 rows: seven looks, of which some are in order.
         other = Ask(0, beside(in_turn(Look(0, 1), Look(1, 2), Look(2, 3)), *[Look(k, 0) for k in range(4)]))
         self.raises(TooMany, "rows", is_open, LINE, shut, other, (1, None))
+
+    def test_eight_hundred_rows_are_gone_through(self):
+        # 40 rows ahead of 20: two looks together and one ahead of two, beside; two together beside three in turn.
+        looks = [Look(k % 5, (k + 1) % 5) for k in range(10)]
+        left = beside(beside(*looks[:2]), in_turn(looks[2], beside(*looks[3:5])))
+        right = beside(beside(*looks[5:7]), in_turn(*looks[7:]))
+        phrase = Ask(0, in_turn(left, right))
+        system, foe = System(1, [0] * 5, [[]] * 5, [0]), Foe(5, [1], [([1], 1)])
+        self.assertEqual(count_rows(look_order(system, phrase)), 800)
+        self.assertIs(is_open(system, foe, phrase, (2, None)), False)
+        self.assertIsNone(open_way(system, foe, phrase, (2, None)))
+        told = peels_of(system, foe, phrase, (2, None))
+        self.assertEqual(told, tuple((row, ()) for row in look_rows(phrase)))
+        self.assertIs(is_peels(system, foe, phrase, (2, None), told), True)
+        self.assertIs(lot_open(system, phrase, (2, None), [0, 1, 0, 0, 0]), False)
+        self.assertTrue(least_open(system, phrase, (2, None)))
+        self.assertTrue(greatest_shut(system, phrase, (2, None)))
+        self.assertTrue(trust_sets(system, phrase, 2))
 
     def test_errors_in_their_order(self):
         foe, small = Foe(6, [1], []), Foe(5, [], [])

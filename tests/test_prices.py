@@ -247,6 +247,12 @@ class Cheapest(Case):
         # Each look is covered by the part that the look ahead of it finds, so all seven are bad.
         self.assertEqual(fewest_deeds(seven, foe, phrase, (1, None)), 7)
         self.assertEqual(len(heights_of(seven, foe, phrase, (1, 0), Prices.ones(foe))), 2 * 11 * 128)
+        # Five pairs of looks in turn have 243 beginnings: 1944 states; eight looks together have 256.
+        three, late = System(1, [0] * 3, [[]] * 3, [0]), Foe(3, [0, 1], [([1], 2)])
+        phrase = Ask(0, beside(*[in_turn(Look(0, 1), Look(1, 2))] * 5))
+        self.assertEqual(len(heights_of(three, late, phrase, (2, None), Prices.ones(late))), 1944)
+        self.assertEqual(fewest_deeds(three, late, phrase, (2, None)), 3)
+        self.raises(TooMany, "states", fewest_deeds, three, late, Ask(0, beside(*[Look(0, 1)] * 8)), (2, None))
         small = System(1, [0], [[]], [0])
         phrase = Ask(0, beside(*[Look(0, 0)] * 9))
         one = Foe(1, [0], [])

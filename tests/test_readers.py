@@ -1,6 +1,7 @@
 """Points 125 to 128 and 130: the cover for the reader, greatest unread runs, peels for the reader, machines."""
 
 import unittest
+import unittest.mock
 
 from deeplooks.changing import unread
 from deeplooks.covers import Hearing, reaches
@@ -10,11 +11,13 @@ from deeplooks.evidencetexts import evidence_text
 from deeplooks.foes import Foe
 from deeplooks.growth import grow
 from deeplooks.judges import takes
+from deeplooks.letters import letter_text
+from deeplooks.machines import Machine
 from deeplooks.openness import event_line, is_open
 from deeplooks.phrases import Ask, Look, Sign, Then, ask_many, beside, in_turn
 from deeplooks.phrasetexts import phrase_from
 from deeplooks.readers import Reading, play_out, reader_peels, reads, taken_way
-from deeplooks.rows import count_rows, rows_of
+from deeplooks.rows import count_rows, row_count, rows_of
 from deeplooks.runs import Run, is_run, misfit
 from deeplooks.sending import recorded_by
 from deeplooks.sieves import goings, is_peel, peel, sieve
@@ -241,10 +244,53 @@ class Taken(Case):
         found = reader_peels(system, foe, phrase, (1, None))
         self.assertEqual(len(found), 360)
         self.assertEqual([type(found), type(found[0]), type(found[0][1])], [tuple] * 3)
+        # 400 rows: 20 ahead of 20.
+        half = [beside(beside(a, b), in_turn(c, d, e)) for a, b, c, d, e in (looks[:5], looks[5:] + looks[:4])]
+        whole = Ask(0, in_turn(*half))
+        self.assertEqual(row_count(whole), 400)
+        self.assertIsNone(taken_way(system, foe, whole, (2, None)))
+        self.assertEqual(len(reader_peels(system, foe, whole, (2, None))), 400)
         # 420 rows: three looks in turn, beside two in turn, beside two.
         more = Ask(0, beside(in_turn(*looks[:3]), in_turn(*looks[3:5]), looks[5], looks[0]))
         self.raises(TooMany, "rows", taken_way, system, foe, more, (2, None))
         self.raises(TooMany, "rows", reader_peels, system, foe, more, (2, None))
+
+
+class Counted(Machine):
+    """A machine that counts what is sent and brought, and the records behind which their place did not fall."""
+
+    def __init__(self, system, phrase, nonce):
+        Machine.__init__(self, system, phrase, nonce)
+        self.sent, self.brought, self.unfallen, self.waiting = [], [], [], []
+
+    def send(self, letter):
+        """Counts a letter that is sent."""
+        self.sent.append(letter_text(letter))
+        Machine.send(self, letter)
+
+    def bring(self, letter, *, cut=None):
+        """Counts a letter that is brought, and its record."""
+        self.brought.append(letter_text(letter))
+        return self.noted(lambda: Machine.bring(self, letter, cut=cut))
+
+    def do(self, event, *, word=True, sent=None, cut=None):
+        """Counts the record of an event."""
+        return self.noted(lambda: Machine.do(self, event, word=word, sent=sent, cut=cut))
+
+    def noted(self, call):
+        """Makes the call; the place whose log grew has to fall before the next record of any place."""
+        before = [self.log_of(place) for place in range(-1, 4)]
+        told = call()
+        grown = [place for place in range(-1, 4) if self.log_of(place) != before[place + 1]]
+        if grown:
+            self.unfallen += self.waiting
+            self.waiting = [place for place in grown if place != -1]
+        return told
+
+    def fall(self, place):
+        """Notes that the place fell."""
+        Machine.fall(self, place)
+        self.waiting = [other for other in self.waiting if other != place]
 
 
 class PlayOut(Case):
@@ -282,6 +328,18 @@ class PlayOut(Case):
         for chance, system, phrase, row, run in drawn(204, 40):
             self.assertTrue(is_run(FREE, run))
             self.check(chance, system, FREE, phrase, row, run)
+
+    def test_twice(self):
+        # What was done on the machine cannot be seen in it, so it is counted while it is done.
+        for _, system, phrase, row, run in drawn(208, 10, 8):
+            for twice in (False, True):
+                with unittest.mock.patch("deeplooks.readers.Machine", Counted):
+                    machine = play_out(system, FREE, phrase, 5, row, run, twice=twice)
+                many = 2 if twice else 1
+                self.assertEqual(sorted(set(machine.sent)), sorted(letter_text(letter) for letter in machine.letters()))
+                for told in (machine.sent, machine.brought):
+                    self.assertTrue(all(told.count(text) == many for text in told))
+                self.assertEqual(machine.unfallen == [], twice)
 
     def test_taken_ways(self):
         taken = 0

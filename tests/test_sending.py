@@ -141,6 +141,17 @@ class Full(Case):
         self.assertIs(is_sending(FOUR, phrase, 5, row, run, two), False)
         self.assertIs(is_sending(FOUR, phrase, 5, row, run, two, memory=1), True)
 
+    def test_what_memory_knows(self):
+        # Place 1 signs with a nonce in hand; the answer of place 0 may be what it was in the old session.
+        phrase = phrase_from("@0(@1((2>3 -> !)))")
+        row, run = [0, 1, 2, 3, 4], Run([[]] * 4 + [[0], [0]], [[]] * 4 + [[0]])
+        for nonce, old in [(5, 6), (0, 1), (999999999, 1000000000), (1000000000, 0)]:
+            records = list(recorded_by(FOUR, phrase, nonce, row, run)[0])
+            for other in {0, 1, 4, 6, 7, 999999998, 1000000000} - {nonce}:
+                records[4] = clean_of(FOUR, phrase, other)
+                self.assertIs(is_sending(FOUR, phrase, nonce, row, run, records, memory=True), other == old)
+                self.assertIs(is_sending(FOUR, phrase, nonce, row, run, records), False)
+
     def test_signs_that_do_not_come_into_the_evidence(self):
         # The signed piece of a lost look is not remembered, for no clean evidence holds it.
         phrase = phrase_from("@0(((@1((2>3 -> !)) -;- !) -> (@0(1>0) -;- !)))")

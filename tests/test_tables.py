@@ -177,6 +177,16 @@ class Tables(Case):
         for value in NO_LISTS + wrong:
             self.assertIs(is_table(system, foe, phrase, (1, None), value), False)
 
+    def test_what_is_no_beginning(self):
+        system, foe, phrase = System(1, [0, 0], [[], []], [0]), Foe(2, [1], []), phrase_from("@0((0>1 -> 0>1))")
+        right = [((), [(0,)]), ((0,), [(0, 1)]), ((0, 1), [(0, 1)])]
+        self.assertEqual(table_of(system, foe, phrase, (1, None)), right)
+        self.assertIs(is_table(system, foe, phrase, (1, None), [right[0], ((1,), [(0, 1)]), right[2]]), False)
+        self.assertIs(is_table(system, foe, phrase, (1, None), right + [((1,), [(0, 1)])]), False)
+        table_of(system, foe, phrase, (1, None))[0][1].clear()
+        table_of(system, foe, phrase, (1, None)).clear()
+        self.assertEqual(table_of(system, foe, phrase, (1, None)), right)
+
     def test_stuck_comes_behind_the_aim(self):
         system, foe = System(1, [0, 0], [[], []], [0]), Foe(2, [1], [], stuck=[0])
         self.raises(BadFoe, "stuck", table_of, system, foe, phrase_from("@0(0>1)"), (1, 0))
