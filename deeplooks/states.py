@@ -23,7 +23,7 @@ class States:
         self._early_prices = prices.early
         self._rules = list(zip(masks.rule_masks, prices.rules))
         self._mends = [(1 << part, prices.mends[part], part) for part in range(foe.many) if part not in foe.stuck]
-        self._all_bad = range(1 << foe.many)
+        self._all_bad = list(range(1 << foe.many))
 
     def all_states(self):
         """A list of all states."""

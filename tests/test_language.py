@@ -181,6 +181,27 @@ class Language(unittest.TestCase):
                     self.assertIn(node, heads, name)
                     self.assertTrue(all(isinstance(value, ast.Name) for value in node.args), name)
 
+    def test_ranges_and_views_are_not_stored(self):
+        for name, tree in trees():
+            for node in ast.walk(tree):
+                if isinstance(node, ast.Call):
+                    lazy = getattr(node.func, "id", "") in ("zip", "enumerate", "reversed", "range", "map")
+                    view = getattr(node.func, "attr", "") in ("items", "keys", "values")
+                    if lazy or view:
+                        self.assertTrue(self.is_iterated(tree, node), (name, node.lineno))
+
+    def is_iterated(self, tree, call):
+        """True if the call is iterated at once, or kept in a plain local variable."""
+        takers = ("list", "tuple", "dict", "sorted", "sum", "any", "all", "enumerate", "zip", "min", "max", "reversed")
+        for node in ast.walk(tree):
+            if isinstance(node, (ast.For, ast.comprehension)) and node.iter is call:
+                return True
+            if isinstance(node, ast.Call) and getattr(node.func, "id", "") in takers and call in node.args:
+                return True
+            if isinstance(node, ast.Assign) and node.value is call and isinstance(node.targets[0], ast.Name):
+                return getattr(call.func, "id", "") == "range"
+        return False
+
     def test_classes_are_not_passed_on(self):
         held = {node.name for _, tree in trees() for node in tree.body if isinstance(node, ast.ClassDef)}
         for name, tree in trees():
