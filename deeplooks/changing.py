@@ -54,7 +54,7 @@ def first_kept(system, phrase, row, run, *, memory=False):
     kept = []
     for number in handling.heard_looks(run):
         for path, way in zip(copies[number], ways[number]):
-            if not any([handling.is_changed(run, stop) for stop in handling.stops_of(way)]):
+            if not handling.is_changeable(run, handling.stops_of(way)):
                 kept.append(path)
     # "left" is less than "right", and a path less than a longer one that begins so.
     return min(kept, default=None)

@@ -9,7 +9,7 @@ def keys_out(system, run, i):
     """The set of the places whose key is out at gap i."""
     if not is_number(i, 0, len(run.states)):
         raise BadRow(i)
-    return tuple([place for place, manager in enumerate(system.managers) if was_bad(run, manager, i)])
+    return tuple([place for place, manager in enumerate(system.managers) if was_bad(run, manager, 0, i)])
 
 
 def place_of_event(system, phrase, event):
@@ -20,6 +20,6 @@ def place_of_event(system, phrase, event):
     return events[event][1]
 
 
-def was_bad(run, part, gap):
-    """True if the part was bad at some moment up to the end of the gap."""
-    return any([part in moments for moments in run.moments[:gap + 1]])
+def was_bad(run, part, first, last):
+    """True if the part was bad at some moment of these gaps, from the first up to the last one."""
+    return any([part in moments for moments in run.moments[first:last + 1]])

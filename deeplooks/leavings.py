@@ -22,13 +22,13 @@ def bare(phrase):
 
 def without_signs(system, phrase):
     """The phrase in which each sign is taken out."""
-    _check_not_bare(system, phrase)
+    check_not_bare(system, phrase)
     return _unsigned(phrase)
 
 
 def signed_at(system, phrase, spots):
     """The phrase that is signed at the spots and nowhere else."""
-    _check_not_bare(system, phrase)
+    check_not_bare(system, phrase)
     found = leavings(system, phrase)
     if not is_set(spots, event_many(phrase)) or not inside(spots, found):
         raise BadSet("spots")
@@ -40,11 +40,11 @@ def signed_at(system, phrase, spots):
 
 def full_signing(system, phrase):
     """The phrase that is signed at all leavings."""
-    _check_not_bare(system, phrase)
+    check_not_bare(system, phrase)
     return signed_at(system, phrase, leavings(system, phrase))
 
 
-def _check_not_bare(system, phrase):
+def check_not_bare(system, phrase):
     """BadPhrase if the phrase does not fit the system, or is bare."""
     check_phrase(system, phrase)
     if bare(phrase):

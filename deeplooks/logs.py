@@ -27,7 +27,7 @@ def worked_out(system, phrase, nonce, place, records, event):
     check_session(system, phrase, nonce)
     check_place(system, place)
     plan = Plan(system, phrase)
-    if not is_int(event) or event not in ready_by(plan, place, records) or event in plan.looks:
+    if not is_int(event) or event not in ready_by(plan, place, records) or event in plan.look_events:
         raise BadStep("event")
     return honest_evidence(plan, nonce, records, event)
 
@@ -73,21 +73,21 @@ def told_by(nonce, records):
 
 def has_ended(piece, marks):
     """True if all looks and asks of the piece are ended; marks has (kind, event) of the records as keys."""
-    return len(_ended(piece, marks)) == len(piece.looks) + len(piece.asks)
+    return len(_ended(piece, marks)) == len(piece.look_events) + len(piece.asks)
 
 
 def _fits(plan, record):
     """True if the record's number is an event of the kind that its own kind tells."""
     if record.kind == SAID:
-        return record.event in plan.looks
+        return record.event in plan.look_events
     return plan.is_ask(record.event)
 
 
 def _ready_in_piece(plan, piece, marks):
     """A list of the events of an open piece that are ready."""
-    members = piece.looks + piece.asks
+    members = piece.look_events + piece.asks
     ended = _ended(piece, marks)
-    waiting = [look for look in piece.looks if (SAID, look) not in marks]
+    waiting = [look for look in piece.look_events if (SAID, look) not in marks]
     waiting = waiting + [ask for ask in piece.asks if (ASKED, ask) not in marks]
     found = [event for event in waiting if inside(common(plan.order.ahead(event), members), ended)]
     if piece.last is not None and (DONE, piece.ask) not in marks and has_ended(piece, marks):
@@ -97,5 +97,5 @@ def _ready_in_piece(plan, piece, marks):
 
 def _ended(piece, marks):
     """A list of the looks that are said and the asks that are got, of those that belong to the piece."""
-    looks = [look for look in piece.looks if (SAID, look) in marks]
+    looks = [look for look in piece.look_events if (SAID, look) in marks]
     return looks + [ask for ask in piece.asks if (GOT, ask) in marks]

@@ -27,14 +27,14 @@ def least_open(system, phrase, aim):
     """A list of the least open lots, ascending."""
     check_phrase(system, phrase)
     opened = _lots_opened(system, phrase, aim_of(system, phrase, aim))
-    return [lot for lot in opened if opened[lot] and not any([opened[near] for near in _one_step(lot, -1)])]
+    return [lot for lot in opened if opened[lot] and not any([opened[near] for near in one_step(lot, -1)])]
 
 
 def greatest_shut(system, phrase, aim):
     """A list of the greatest shut lots, ascending."""
     check_phrase(system, phrase)
     opened = _lots_opened(system, phrase, aim_of(system, phrase, aim))
-    return [lot for lot in opened if not opened[lot] and all([opened[near] for near in _one_step(lot, 1)])]
+    return [lot for lot in opened if not opened[lot] and all([opened[near] for near in one_step(lot, 1)])]
 
 
 def trust_sets(system, phrase, part):
@@ -66,15 +66,15 @@ def _lots_opened(system, phrase, aim):
         raise TooMany("parts")
     cleaning = Cleaning(system, phrase, walk_of(order))
     opened = {}
-    for lot in _all_lots(system.many):
+    for lot in all_lots(system.many):
         # A lot above an open one is open; the lots one step below come earlier.
-        opened[lot] = any([opened[near] for near in _one_step(lot, -1)])
+        opened[lot] = any([opened[near] for near in one_step(lot, -1)])
         if not opened[lot]:
             opened[lot] = not cleaning.is_shut(cleaning.clean_sets(Foe.of_lot(lot)), aim)
     return opened
 
 
-def _all_lots(many):
+def all_lots(many):
     """A list of all lots of so many parts, ascending."""
     lots = [()]
     for _ in range(many):
@@ -82,7 +82,7 @@ def _all_lots(many):
     return lots
 
 
-def _one_step(lot, by):
+def one_step(lot, by):
     """A list of the lots that differ from this one by one step at one part, up or down."""
     found = []
     for part, level in enumerate(lot):

@@ -27,7 +27,7 @@ class Machine:
         self._stations = {place: Station(system, phrase, nonce, place) for place in range(JUDGE, system.places)}
         self._bag = []
         self._done = []
-        self._left = len(self._plan.looks) + RECORDS_OF_ASK * (len(self._plan.pieces) - 1)
+        self._left = len(self._plan.look_events) + RECORDS_OF_ASK * (len(self._plan.pieces) - 1)
         for letter in old:
             self._put_into_bag(letter)
 
@@ -113,7 +113,7 @@ class Machine:
         for station in self._stations.values():
             for record in station.records():
                 if record.kind == SAID:
-                    found[self._plan.looks.index(record.event)] = record.what
+                    found[self._plan.look_events.index(record.event)] = record.what
         return found
 
     def answer(self):

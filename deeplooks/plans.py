@@ -22,7 +22,7 @@ class Piece:
         self.place = place
         self.last = last
         self.tree = tree
-        self.looks = _events_in(tree, "look")
+        self.look_events = _events_in(tree, "look")
         self.asks = _events_in(tree, "ask")
 
 
@@ -31,16 +31,16 @@ class Laying:
 
     def __init__(self):
         self.events = 0
-        self.looks = 0
+        self.look_many = 0
         self.signs = 0
         self.pieces = []
 
     def tree_of(self, phrase):
         """The tree of the phrase; the pieces of its asks are put to the others."""
         if isinstance(phrase, Look):
-            tree = ("look", self.events, self.looks, phrase.measurer, phrase.target)
+            tree = ("look", self.events, self.look_many, phrase.measurer, phrase.target)
             self.events += 1
-            self.looks += 1
+            self.look_many += 1
             return tree
         if isinstance(phrase, Sign):
             self.signs += 1
@@ -73,7 +73,7 @@ class Plan:
         laying = Laying()
         tree = laying.tree_of(phrase)
         self.pieces = [Piece(JUDGE, JUDGE, None, tree)] + laying.pieces
-        self.looks = [number for number, event in enumerate(self.events) if event[0] == "look"]
+        self.look_events = [number for number, event in enumerate(self.events) if event[0] == "look"]
 
     def pieces_of_place(self, place):
         """A list of the pieces that stand at the place, by the events of their asks."""

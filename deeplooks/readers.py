@@ -29,23 +29,13 @@ class Reading:
         self.memory = bool(memory)
         self._handling = Handling(system, phrase, row, self.memory)
         self.row = self._handling.row
-        ways = all_ways(system, phrase)
-        # Copies with equal ways are changeable in the same runs.
-        different = [list({way: True for way in found}) for found in ways]
-        self._copies = [[self._handling.stops_of(way) for way in found] for found in different]
+        self._copies = self._handling.copy_stops(all_ways(system, phrase))
 
     def __call__(self, run, i):
         look = self._handling.line[i]
         if look is None or meets(self.system.needs[look[0]], run.states[i]):
             return True
-        return all([self._is_changeable(run, stops) for stops in self._copies[self._handling.look_at(i)]])
-
-    def _is_changeable(self, run, stops):
-        """True if a copy with these stops is changeable at some of them."""
-        for stop in stops:
-            if self._handling.is_changed(run, stop):
-                return True
-        return False
+        return all([self._handling.is_changeable(run, stops) for stops in self._copies[self._handling.look_at(i)]])
 
 
 def reads(system, foe, phrase, row, *, memory=False):
@@ -57,8 +47,8 @@ def reads(system, foe, phrase, row, *, memory=False):
 
 def taken_way(system, foe, phrase, aim, *, memory=False):
     """The first row on which the greatest unread run reaches the aim, and this run; else None."""
-    wanted = _event_aim(system, foe, phrase, aim)
-    order = _checked_rows(system, phrase)
+    wanted = event_aim(system, foe, phrase, aim)
+    order = checked_events(system, phrase)
     for row in rows_of(order):
         run = reads(system, foe, phrase, row, memory=memory)
         if is_reached(run, aim_in_row(wanted, row)):
@@ -68,8 +58,8 @@ def taken_way(system, foe, phrase, aim, *, memory=False):
 
 def reader_peels(system, foe, phrase, aim, *, memory=False):
     """A tuple of all rows, each with its peel for the reader; None if some run is taken."""
-    wanted = _event_aim(system, foe, phrase, aim)
-    order = _checked_rows(system, phrase)
+    wanted = event_aim(system, foe, phrase, aim)
+    order = checked_events(system, phrase)
     found = []
     for row in rows_of(order):
         line = event_line(system, phrase, row)
@@ -119,13 +109,13 @@ def _let_fall(machine, places):
         machine.fall(place)
 
 
-def _event_aim(system, foe, phrase, aim):
+def event_aim(system, foe, phrase, aim):
     """The aim with an event in the place of its look number, if all is right."""
     target, number = check_aims(system, foe, phrase, aim)
     return (target, None if number is None else look_events(system, phrase)[number])
 
 
-def _checked_rows(system, phrase):
+def checked_events(system, phrase):
     """The order of the phrase, if it has no more rows than are gone through."""
     if row_count(phrase) > MOST_ROWS:
         raise TooMany("rows")

@@ -1,11 +1,10 @@
 """Orders that branches alone can make, and the phrases that do it."""
 
-from deeplooks.errors import BadOrder, BadSet
+from deeplooks.errors import BadOrder
+from deeplooks.lookrows import check_one_home, looks_over
 from deeplooks.orders import Order
 from deeplooks.phrases import Ask, Look, beside
-from deeplooks.sets import is_list, is_pair, joined
-
-MOST_LOOKS = 8
+from deeplooks.sets import joined
 
 
 def n_of(order):
@@ -29,24 +28,14 @@ def pieces(order, comparable):
 
 def looks_phrase(system, looks, order):
     """A phrase of these looks, each once, that has this order on them; None if the order has an N."""
-    if not _are_looks(system, looks):
-        raise BadSet("looks")
-    if not isinstance(order, Order) or order.size != len(looks):
+    held = looks_over(system, looks)
+    check_one_home(system, held)
+    if not isinstance(order, Order) or order.size != len(held):
         raise BadOrder("size")
     if n_of(order) is not None:
         return None
-    phrase, numbers = _made(looks, order, tuple(range(order.size)))
-    return (Ask(system.homes[looks[0][0]], phrase), numbers)
-
-
-def _are_looks(system, value):
-    """True if value is a list or tuple of looks whose measurers are at home at one place."""
-    if not is_list(value) or len(value) < 1 or len(value) > MOST_LOOKS:
-        return False
-    if not all([is_pair(look, system.many) for look in value]):
-        return False
-    home = system.homes[value[0][0]]
-    return all([system.homes[look[0]] == home for look in value])
+    phrase, numbers = _made(held, order, tuple(range(order.size)))
+    return (Ask(system.homes[held[0][0]], phrase), numbers)
 
 
 def _n_with(order, a, b):

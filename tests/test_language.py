@@ -141,7 +141,8 @@ class Language(unittest.TestCase):
                 for bound in bound_names(function):
                     self.assertNotIn(bound, held, (name, function.name))
                     self.assertNotIn(bound, PYTHON, (name, function.name))
-                    self.assertNotIn(bound, WORDS)
+                    # L17 leaves this one word to parameters and local variables.
+                    self.assertTrue(bound == "register" or bound not in WORDS, (name, bound))
                 if not function.name.startswith("__"):
                     self.assertNotIn(function.name, WORDS)
                     self.assertNotIn(function.name, PYTHON, name)
