@@ -283,6 +283,143 @@ EXAMPLES = {
 >>> phrase_text(full_signing(system, phrase_from("@0((0>1 -> @1((2>3 -> !))))")))
 '@0(((0>1 -> (! -> @1((2>3 -> !)))) -> !))'
 """,
+    "needed": """
+>>> from deeplooks.needed import least_signings, wanted
+>>> from deeplooks.phrasetexts import phrase_from
+>>> from deeplooks.systems import System
+>>> system = System(2, [0, 0, 1, 1], [[], [], [], []], [0, 2])
+>>> phrase = phrase_from("(@0(0>1) -> @0(@1(2>3)))")
+>>> [wanted(system, phrase), least_signings(system, phrase)]
+[[(6,), (2, 4)], [(2, 6), (4, 6)]]
+""",
+    "changers": """
+>>> from deeplooks.changers import changers
+>>> from deeplooks.leavings import full_signing
+>>> from deeplooks.phrasetexts import phrase_from
+>>> from deeplooks.systems import System
+>>> system = System(2, [0, 0, 1, 1], [[], [], [], []], [0, 2])
+>>> phrase = phrase_from("@0((0>1 -> @1((2>3 -> !))))")
+>>> [changers(system, phrase, 0), changers(system, full_signing(system, phrase), 0)]
+[[(0,), (1,)], [(0,)]]
+""",
+    "selfkept": """
+>>> from deeplooks.systems import System
+>>> from deeplooks.selfkept import least_kept_lots
+>>> least_kept_lots(System(1, [0, 0, 0], [[2], [], []], [0]), [(0, 1), (1, 2)], 1)
+[(0, 1, 1), (0, 2, 0), (1, 1, 0)]
+""",
+    "feeding": """
+>>> from deeplooks.systems import System
+>>> from deeplooks.orders import Order
+>>> from deeplooks.feeding import feeding_pairs, spoiler
+>>> system = System(1, [0, 0, 0], [[], [], []], [0])
+>>> looks = [(1, 2), (0, 1)]
+>>> [feeding_pairs(system, looks), spoiler(system, looks, Order.of_row([0, 1]))]
+[((1, 0),), (1, 0, (0, 1, 1))]
+""",
+    "shortest": """
+>>> from deeplooks.systems import System
+>>> from deeplooks.shortest import shortest_best
+>>> system = System(1, [0, 0, 0, 0, 0, 0], [[5], [3], [4], [], [], []], [0])
+>>> shortest_best(system, [(0, 3), (1, 4), (2, 5)])
+((0, 3), (1, 4), (2, 5), (0, 3))
+""",
+    "freesystems": """
+>>> from deeplooks.freesystems import free_foe, free_system
+>>> row = [(0, 1), (2, 3), (0, 4), (1, 5)]
+>>> free_system(6, row, 5).needs
+((0,), (1, 3, 4), (1, 2), (0, 1, 2, 3, 4, 5), (0, 1, 2, 3, 4, 5), (0, 1, 2, 3, 4, 5))
+""",
+    "everywhere": """
+>>> from deeplooks.everywhere import strong_by_rules, strong_everywhere
+>>> [strong_everywhere(3, [(0, 2), (0, 1)], [(0, 1), (0, 2)], 2), strong_by_rules(3, [(0, 2), (0, 1)], [(0, 1), (0, 2)], 2)]
+[True, False]
+""",
+    "alike": """
+>>> from deeplooks.alike import shorten, spare
+>>> row = [(0, 1), (0, 1), (1, 3)]
+>>> [spare(4, row, 3), shorten(4, row, 3)]
+[(0, 1), ((0, 1), (1, 3))]
+""",
+    "tours": """
+>>> from deeplooks.foes import Foe
+>>> from deeplooks.systems import System
+>>> from deeplooks.tours import left_after
+>>> system = System(1, [0, 0, 0], [[], [0], []], [2])
+>>> left_after(system, Foe(3, [1, 2], []), [[(1, 2), (0, 1)]], 0, 2)
+((1, 2), (2,), ())
+""",
+    "camps": """
+>>> from deeplooks.camps import camp
+>>> from deeplooks.foes import Foe
+>>> from deeplooks.systems import System
+>>> system = System(1, [0, 0, 0], [[], [], []], [0])
+>>> camp(system, Foe(3, [0, 1, 2], [([2], 0)]), [[(0, 1), (1, 0)], [(1, 2)]], 1)
+(0, 1, 2)
+""",
+    "registers": """
+>>> from deeplooks.registers import register_of, rows_told
+>>> rows_told(register_of([(0, 1), (2, 2)], [True, False]))
+(((0, 1), (2, 2)), (True, False))
+""",
+    "starts": """
+>>> from deeplooks.evidencetexts import evidence_text
+>>> from deeplooks.phrasetexts import phrase_from
+>>> from deeplooks.runs import Run
+>>> from deeplooks.starts import Starts, sealed_evidence
+>>> from deeplooks.systems import System
+>>> system = System(2, [0, 0, 1], [[], [], []], [1, 2])
+>>> starts = Starts(system, [[(0, 1)], []], [0])
+>>> phrase = phrase_from("@1(@0((0>1 -> !)))")
+>>> run = Run([[1], [1], [], [], [], [], []], [[1], [], [], [], [], []])
+>>> evidence_text(sealed_evidence(starts, phrase, 5, [0, 1, 2, 3, 4], run))
+'x0'
+""",
+    "blame": """
+>>> from deeplooks.blame import must_ever
+>>> from deeplooks.foes import Foe
+>>> from deeplooks.systems import System
+>>> system = System(1, [0, 0, 0], [[], [0], []], [2])
+>>> foe = Foe(3, [1, 2], [])
+>>> line = [(0, 1), (1, 2)]
+>>> (must_ever(system, foe, line, [False, True], 1), must_ever(system, foe, line, [False, True], 2))
+(True, False)
+""",
+    "guilt": """
+>>> from deeplooks.guilt import story_lots
+>>> from deeplooks.systems import System
+>>> story_lots(System(1, [0, 0, 0], [[], [0], []], [2]), [(0, 1), (1, 2)], [False, True])
+[(0, 1, 0), (1, 0, 0)]
+""",
+    "trials": r"""
+>>> from deeplooks.desks import Desk
+>>> from deeplooks.foes import Foe
+>>> from deeplooks.phrasetexts import phrase_from
+>>> from deeplooks.systems import System
+>>> from deeplooks.trials import Trial
+>>> system = System(1, [0, 0, 0], [[], [0], []], [2])
+>>> desk = Desk(system, Foe.of_lot([0, 1, 1]), phrase_from("@0((0>1 -> 1>2))"), 7)
+>>> trial = Trial(desk)
+>>> inside = trial.begin()
+>>> inside.put_out(2)
+>>> within = desk.told[1]
+>>> trial.finish()
+>>> (within, desk.told[1], trial.ended)
+('parts 3\nearly 1\nrules\nstuck', 'parts 3\nearly 1 2\nrules\nstuck', True)
+""",
+    "listings": """
+>>> from deeplooks.desks import Desk
+>>> from deeplooks.foes import Foe
+>>> from deeplooks.listings import listing
+>>> from deeplooks.phrasetexts import phrase_from
+>>> from deeplooks.systems import System
+>>> from deeplooks.trials import tried
+>>> system = System(1, [0, 0, 0], [[], [0], []], [2])
+>>> desk = Desk(system, Foe.of_lot([0, 1, 1]), phrase_from("@0((0>1 -> 1>2))"), 7)
+>>> desk.want((2, None))
+>>> (listing(desk)[1], tried(desk, [("add_rule", ([], 2))], listing)[1], listing(desk)[0])
+('aim 2 at the end: shut, taken', 'aim 2 at the end: open, taken', 'parts 3, places 1, looks 2, asks 1')
+""",
 }
 
 
