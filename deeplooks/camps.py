@@ -26,7 +26,6 @@ def is_camp(system, foe, tour, pace, parts):
 
 def longest_pace(system, foe, tour):
     """The greatest pace, up to the number of parts, at which the foe is met; None if it is met at none."""
-    check_tour(system, foe, tour)
     # A larger pace leaves no less.
     for pace in range(system.many, -1, -1):
         if met(system, foe, tour, pace) is not None:

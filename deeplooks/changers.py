@@ -1,6 +1,6 @@
 """Which places can change all copies of a look's word, with a run in which they do."""
 
-from deeplooks.checks import JUDGE, check_phrase, looks_of
+from deeplooks.checks import check_phrase, looks_of
 from deeplooks.events import look_events
 from deeplooks.foes import Foe
 from deeplooks.rows import extremes
@@ -49,5 +49,5 @@ def _can_change(system, phrase, look, places):
 
 
 def _is_free(step, keys):
-    """True if the step is a place's, and all that must be out there is among the keys."""
-    return step[1] != JUDGE and inside(joined(round_of(step), (step[1],)), keys)
+    """True if the step's place and all places of its round are among the keys; the judge's never is."""
+    return inside(joined(round_of(step), (step[1],)), keys)

@@ -3,7 +3,7 @@
 from deeplooks.aims import aim_of, check_parts
 from deeplooks.checks import check_phrase, looks_of
 from deeplooks.errors import BadBook, BadFoe, BadPhrase
-from deeplooks.foes import MOST_RULES, Foe, foe_from, foe_text, is_rule
+from deeplooks.foes import Foe, foe_from, foe_text, is_rule
 from deeplooks.leavings import signed_at
 from deeplooks.logs import check_session
 from deeplooks.mending import mend_told
@@ -102,8 +102,7 @@ class Desk:
             raise BadFoe("rules")
         if (tuple(sorted(premise)), part) in foe.rules:
             raise BadBook("rule")
-        if len(foe.rules) >= MOST_RULES:
-            raise BadFoe("rules")
+        # With more rules than a foe may have this raises BadFoe.
         self.set_foe(Foe(foe.many, foe.early, [*foe.rules, (premise, part)], stuck=foe.stuck))
 
     def add_look(self, measurer, target):

@@ -61,6 +61,7 @@ def clean_when(system, looks, levels, row, part):
 
 def _goes_on(needs, path, part):
     """True if the part can stand behind the path; needs has for each target what its look's measurer needs."""
-    if part in path or path[-1] not in needs[part] or part in needs[part]:
+    # What stands in the path is needed by what follows it there, so it cannot lead on from it.
+    if path[-1] not in needs[part] or part in needs[part]:
         return False
     return not any([part in needs[earlier] for earlier in path])

@@ -1,11 +1,10 @@
 """What can shut an open phrase: parts to be trusted, a better order, signs."""
 
 from deeplooks.aims import check_aims
-from deeplooks.errors import TooMany
 from deeplooks.feeding import feeding_order
 from deeplooks.leavings import bare
 from deeplooks.lookrows import looks_once
-from deeplooks.lots import MOST_LOT_PARTS, trust_sets
+from deeplooks.lots import trust_sets
 from deeplooks.needed import fewest_signs
 from deeplooks.openness import is_open
 from deeplooks.readers import checked_events, taken_way
@@ -34,8 +33,6 @@ def mend_told(system, foe, phrase, aim):
     """A dict: whether the phrase is open and is taken, and the signs and the trust that could mend it."""
     wanted = check_aims(system, foe, phrase, aim)
     checked_events(system, phrase)
-    if system.many > MOST_LOT_PARTS:
-        raise TooMany("parts")
     return {
         "open": is_open(system, foe, phrase, wanted),
         "taken": taken_way(system, foe, phrase, wanted) is not None,

@@ -1,6 +1,6 @@
 """Which signs are enough to keep all that signs can keep, and the fewest of them."""
 
-from deeplooks.checks import JUDGE
+from deeplooks.checks import JUDGE, MOST_EVENTS
 from deeplooks.errors import BadSet
 from deeplooks.foes import Foe
 from deeplooks.leavings import check_not_bare, leavings
@@ -53,8 +53,7 @@ def weak_case(system, phrase, spots):
 
 def _check_spots(system, phrase, value):
     """BadSet if the value is no set of leavings of the phrase."""
-    found = leavings(system, phrase)
-    if not is_set(value, found[-1] + 1 if found else 0) or not inside(value, found):
+    if not is_set(value, MOST_EVENTS) or not inside(value, leavings(system, phrase)):
         raise BadSet("spots")
 
 
@@ -62,7 +61,8 @@ def _asked_by(way):
     """A list of what a copy with this way asks for: the step's index, the place, and the set of leavings."""
     found = []
     for k, (_, own, _) in enumerate(way):
-        if k == 0 or own == JUDGE:
+        # The judge has no manager who could change what passes there.
+        if own == JUDGE:
             continue
         for place in sorted(set([at for _, at, _ in way[1:k]])):
             if place != JUDGE and place != own:

@@ -2,7 +2,7 @@
 
 from deeplooks.checks import JUDGE, check_phrase
 from deeplooks.errors import BadPhrase
-from deeplooks.leavings import bare, check_not_bare, without_signs
+from deeplooks.leavings import check_not_bare, without_signs
 from deeplooks.sets import inside, joined
 from deeplooks.ways import all_ways, left_before, round_of, way_of
 
@@ -11,8 +11,6 @@ def more_kept(system, one, other):
     """True if the phrase one keeps all that the phrase other keeps."""
     check_phrase(system, one)
     check_phrase(system, other)
-    if bare(one) or bare(other):
-        raise BadPhrase("bare")
     if without_signs(system, one) != without_signs(system, other):
         raise BadPhrase("other")
     for ways, other_ways in zip(all_ways(system, one), all_ways(system, other)):

@@ -152,6 +152,9 @@ class Changes(Case):
         desk.add_look(0, 0)
         self.assertEqual(desk.told[2], "(((@0(0>1) -> @1(2>0)) -> @0(0>0)) -> @0(0>0))")
         self.raises(BadPhrase, "many", desk.add_look, 0, 0)
+        # Twelve events are there: parts that are none are told first.
+        self.raises(BadPhrase, "part", desk.add_look, 0, 3)
+        self.raises(BadPhrase, "part", desk.add_look, 3, 0)
         deep = Desk(system, Foe(3, [], []), nested(5, Then(Look(0, 1), Then(Sign(), Then(Sign(), Then(Sign(), Then(Sign(), Then(
             Sign(), Sign()))))))), 0)
         self.raises(BadPhrase, "depth", deep.add_look, 0, 1)

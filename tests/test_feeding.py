@@ -200,6 +200,9 @@ class Feeding(Case):
         two = System(2, [0, 1, 0], [[]] * 3, [0, 1])
         self.raises(BadSet, "looks", best_phrase, two, looks)
         self.assertEqual(feeding_pairs(two, looks), ((0, 1),))
+        apart = System(2, [0, 0, 1, 1, 1, 1], [[5], [3], [4], [], [], []], [0, 2])
+        self.assertEqual(feeding_pairs(apart, RING[1]), ((0, 1), (1, 2), (2, 0)))
+        self.raises(BadSet, "looks", best_phrase, apart, RING[1])
         self.assertIsNone(spoiler(system, [[0, 1], [0, 2]], order))
         given = [[0, 1], [1, 2]]
         best_phrase(system, given)

@@ -273,6 +273,15 @@ class Language(unittest.TestCase):
                 if isinstance(node, ast.For):
                     self.assertNotIsInstance(node.iter, (ast.Set, ast.SetComp), name)
 
+    def test_blocks_end_by_assignments_alone(self):
+        # L6: the rows of __exit__ assign attributes of self and of one name that is taken from self.
+        for name, tree in trees():
+            for method in functions(tree):
+                if method.name == "__exit__":
+                    for node in method.body:
+                        self.assertIsInstance(node, ast.Assign, (name, node.lineno))
+                        self.assertIsInstance(node.value, (ast.Attribute, ast.Constant), (name, node.lineno))
+
     def test_equality_asks_for_the_class_first(self):
         for name, tree in trees():
             for held in [node for node in ast.walk(tree) if isinstance(node, ast.ClassDef)]:

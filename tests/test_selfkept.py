@@ -99,6 +99,12 @@ class KeptSets(Case):
                     self.check(system, [every[k] for k in chosen], levels)
         self.assertEqual(set(self.words), {"late", "unlooked", "void", "ring"})
 
+    def test_looks_that_make_nothing_clean_are_left_out(self):
+        system = System(1, [0] * 4, [[]] * 4, [0])
+        looks = [(0, 0), (3, 2), (0, 0), (2, 1), (0, 0), (1, 0), (0, 0)]
+        self.assertEqual(cleaning_row(system, looks, [1, 1, 1, 0], 0), ((3, 2), (2, 1), (1, 0)))
+        self.assertEqual(cleaning_row(system, looks, [1, 1, 1, 0], 1), ((3, 2), (2, 1)))
+
     def test_two_kept_sets_joined(self):
         chance = seeded(342)
         for _ in range(100):

@@ -2,7 +2,7 @@
 
 import unittest
 
-from deeplooks.changing import changeable
+from deeplooks.changing import change_steps, changeable, unread
 from deeplooks.checks import event_many
 from deeplooks.errors import BadPhrase, NotThere
 from deeplooks.leavings import bare, full_signing, leavings, signed_at, without_signs
@@ -11,12 +11,13 @@ from deeplooks.phrasetexts import phrase_from, phrase_text
 from deeplooks.rows import extremes
 from deeplooks.signing import full_round, more_kept
 from deeplooks.systems import System
-from deeplooks.ways import all_ways, left_before, round_of
+from deeplooks.ways import all_ways, left_before, round_of, way_of
 from deeplooks.worth import copies_of
 from tests.fitting import fits, fitting_phrases
-from tests.helpers import FOUR, NO_LISTS, ODD, Case, seeded
+from tests.helpers import FOUR, NO_LISTS, ODD, Case, seeded, some_foe
 from tests.slowchanging import some_form, some_four, some_row
 from tests.slowsigns import Copies, all_runs, changed_in
+from tests.slowstarts import drawn_run
 from tests.test_leavings import few_copies, nested, put_in, signable
 from tests.test_phrases import NO_PHRASES
 
@@ -104,6 +105,42 @@ class MoreKept(Case):
                 self.assertEqual(sign_many(other), sign_many(phrase) + 1)
                 self.assertIs(more_kept(FOUR, other, phrase), True)
         self.assertGreater(tried, 50)
+
+    def test_runs_of_drawn_foes(self):
+        chance = seeded(299)
+        counts = {}
+        for phrase in signable(298, 40):
+            system, foe = some_four(chance), some_foe(chance, 8, 7)
+            other = put_in(chance, phrase, lambda place: Sign())
+            full = full_signing(system, phrase)
+            row = some_row(chance, system, phrase)
+            for _ in range(6):
+                run = drawn_run(chance, foe, len(row))
+                for look, paths in enumerate(copies_of(phrase)):
+                    for number, path in enumerate(paths):
+                        steps = change_steps(system, phrase, row, run, path)
+                        full_steps = change_steps(system, full, row, run, copies_of(full)[look][number])
+                        told = changeable(system, phrase, row, run, path)
+                        self.assertTrue(told or not full_steps)
+                        self.assertEqual(full_steps, self.by_full_rounds(system, phrase, row, run, path))
+                        counts[bool(steps), bool(full_steps)] = True
+                        if fits(other):
+                            changed = changeable(system, other, row, run, copies_of(other)[look][number])
+                            self.assertTrue(told or not changed)
+                if fits(other) and unread(system, other, row, run):
+                    self.assertIs(unread(system, phrase, row, run), True)
+        self.assertEqual(len(counts), 3)
+
+    def by_full_rounds(self, system, phrase, row, run, path):
+        """The steps at which the copy is changeable with full signing, by its rounds there."""
+        way, found = way_of(system, phrase, path), []
+        for k, places in enumerate(full_round(system, phrase, path)):
+            event, place, _ = way[k]
+            i = row.index(event)
+            managed = place != -1 and system.managers[place] in run.states[i]
+            if managed and all(any(system.managers[at] in run.moments[gap] for gap in range(i + 1)) for at in places):
+                found.append(k)
+        return tuple(found)
 
     def test_errors_in_their_order(self):
         right, wrong = phrase_from("@0((0>1 -> !))"), phrase_from("@0(!)")

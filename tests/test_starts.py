@@ -223,6 +223,10 @@ class Taken(Case):
         self.assertIsNone(sealed_taken(Foe(6, [1], []), starts, whole, (2, None)))
         more = Ask(0, beside(in_turn(*looks[:3]), in_turn(*looks[3:5]), looks[5], looks[0]))
         self.raises(TooMany, "rows", sealed_taken, Foe(6, [1], []), starts, more, (2, None))
+        two = System(2, [0] * 6 + [1], [[]] * 7, [5, 6])
+        full = Starts(two, [[(0, 1)] * 4, [(6, 6)] * 4], [0])
+        self.assertEqual(event_many(more), 9)
+        self.raises(BadTour, "rows", sealed_taken, Foe(7, [1], []), full, more, (2, None))
         long = Starts(system, [[(0, 1)] * 4], [0])
         self.assertEqual(event_many(whole), 12)
         self.assertIsNone(sealed_taken(Foe(6, [1], []), long, whole, (2, None)))
@@ -391,7 +395,11 @@ class Errors(Case):
         row = list(ROW)
         sealed_evidence(starts, PHRASE, 1, row, run)
         sealed_reads(foe, starts, PHRASE, row)
+        sealing = Sealing(starts, PHRASE, row)
         self.assertEqual(row, list(ROW))
+        row.reverse()
+        found = Run([[1]] * 7, [[1]] * 6)
+        self.assertEqual([sealing(found, i) for i in range(6)], [Sealing(starts, PHRASE, ROW)(found, i) for i in range(6)])
 
 
 if __name__ == "__main__":
