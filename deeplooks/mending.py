@@ -7,7 +7,7 @@ from deeplooks.lookrows import looks_once
 from deeplooks.lots import trust_sets
 from deeplooks.needed import fewest_signs
 from deeplooks.openness import is_open
-from deeplooks.readers import checked_events, taken_way
+from deeplooks.readers import taken_way
 from deeplooks.selfkept import greatest_kept
 from deeplooks.sets import check_number
 from deeplooks.sure import check_lot
@@ -32,7 +32,6 @@ def order_helps(system, looks, levels, part):
 def mend_told(system, foe, phrase, aim):
     """A dict: whether the phrase is open and is taken, and the signs and the trust that could mend it."""
     wanted = check_aims(system, foe, phrase, aim)
-    checked_events(system, phrase)
     return {
         "open": is_open(system, foe, phrase, wanted),
         "taken": taken_way(system, foe, phrase, wanted) is not None,
