@@ -35,7 +35,8 @@ def firm_rows(many, row, part):
     found = {(): True}
     for look in held:
         for shorter in list(found):
-            found[(*shorter, look)] = True
+            longer = (*shorter, look)
+            found[longer] = True
     return sorted(sorted([shorter for shorter in found if is_firm(shorter, part)]), key=len)
 
 

@@ -68,6 +68,37 @@ def bound_names(function):
     return found
 
 
+def generator_names():
+    """The names of the generators of the package."""
+    return {function.name for _, tree in trees() for function in functions(tree)
+            if any(isinstance(node, (ast.Yield, ast.YieldFrom)) for node in ast.walk(function))}
+
+
+def has_star(node):
+    """True if a star or a double star stands anywhere in the node."""
+    return any(isinstance(part, ast.Starred) or isinstance(part, ast.Dict) and None in part.keys
+               for part in ast.walk(node))
+
+
+def is_generator(node, names):
+    """True if the node is a generator expression or a call of a generator with one of these names."""
+    if isinstance(node, ast.Call):
+        return getattr(node.func, "id", getattr(node.func, "attr", "")) in names
+    return isinstance(node, ast.GeneratorExp)
+
+
+def misplaced_stars(tree, names):
+    """The lines with a star where L7 bars it: in an index, in a set literal, over a generator (names has theirs)."""
+    found = []
+    for node in ast.walk(tree):
+        # L7 does not say how deep "in an index" goes, so no star is let through inside one, not even in a call.
+        in_index = isinstance(node, ast.Subscript) and has_star(node.slice)
+        in_set = isinstance(node, ast.Set) and has_star(node)
+        if in_index or in_set or isinstance(node, ast.Starred) and is_generator(node.value, names):
+            found.append(node.lineno)
+    return found
+
+
 class Language(unittest.TestCase):
 
     def test_files(self):
@@ -172,8 +203,7 @@ class Language(unittest.TestCase):
         self.assertEqual(methods & attributes, set())
 
     def test_generators_are_iterated_at_once(self):
-        names = {function.name for _, tree in trees() for function in functions(tree)
-                 if any(isinstance(node, ast.Yield) for node in ast.walk(function))}
+        names = generator_names()
         self.assertEqual(names, {"rows_of"})
         for name, tree in trees():
             heads = [node.iter for node in ast.walk(tree) if isinstance(node, (ast.For, ast.comprehension))]
@@ -272,6 +302,22 @@ class Language(unittest.TestCase):
                     self.assertIsNotNone(node.type, name)
                 if isinstance(node, ast.For):
                     self.assertNotIsInstance(node.iter, (ast.Set, ast.SetComp), name)
+
+    def test_stars(self):
+        names = generator_names()
+        for name, tree in trees():
+            self.assertEqual(misplaced_stars(tree, names), [], name)
+
+    def test_misplaced_stars_are_seen(self):
+        for text in ("a[(*b, c)] = 1", "a[*b, c] = 1", "a[*b] += 1", "x = a[(*b, c)]", "del a[(*b,)]", "x = a[(*b,), 1]",
+                     "x = a[[*b][0]]", "x = a[f((*b, c))]", "x = a[f(*b)]", "x = a[[*b][0]:]", "x = a.b[1][(c, (*b,))]",
+                     "x = a[{**b}]", "x = [a[(*b, k)] for k in c]", "x = {*a}", "x = {1, (*a, b)}",
+                     "x = [*(k for k in a)]", "x = (*steps(a), 1)", "x = [*a.steps(b)]"):
+            self.assertEqual(misplaced_stars(ast.parse("y = 0\n" + text), ["steps"]), [2], text)
+        for text in ("x = [*a, 1]", "x = (*a, *b)", "x = (*a, b)\ny[x] = 1", "x = [a, *b][-1]", "x = (*a[1:], *b[0])",
+                     "x = f(*a, b)", "a, *b = c", "a[1], *b = c", "x = {**a, 1: b}", "x = [*f(a)]",
+                     "x = [(*a, k) for k in b[1]]", "x = {(*a, k) for k in b}"):
+            self.assertEqual(misplaced_stars(ast.parse(text), ["steps"]), [], text)
 
     def test_blocks_end_by_assignments_alone(self):
         # L6: the rows of __exit__ assign attributes of self and of one name that is taken from self.
